@@ -28,6 +28,8 @@ UNUSED_WORDS = set(
     "type typing typing_extensions enum Enum IntEnum StrEnum Flag IntFlag Generic Protocol ABC ABCMeta namedtuple "
     "NamedTuple TypedDict TYPE_CHECKING abstractmethod register mro elements open input version_info with_traceback "
     "add_note attrgetter breakpoint builtins compile eval exec getattr globals locals super vars".split())
+KEYWORDS = {"sorted": {"key", "reverse"}, "min": {"key", "default"}, "max": {"key", "default"}, "sum": {"start"},
+            "enumerate": {"start"}, "zip": {"strict"}}
 WALKED_AT_ONCE = ("zip", "enumerate", "reversed", "range")
 WALKERS = ("list", "tuple", "dict", "sorted", "sum", "any", "all", "enumerate", "zip", "min", "max")
 
@@ -204,6 +206,30 @@ class Form(unittest.TestCase):
                     self.assertIn(node.id, known, name)
                 if isinstance(node, ast.Call) and isinstance(node.func, ast.Attribute):
                     self.assertIn(node.func.attr, methods | OWN_METHODS, name)
+
+    def test_keywords_at_python_names_and_methods(self):
+        for where, node in self.nodes(ast.Call):
+            words = {word.arg for word in node.keywords}
+            if isinstance(node.func, ast.Attribute):
+                self.assertFalse(words and node.func.attr in OWN_METHODS, where)
+            elif isinstance(node.func, ast.Name) and node.func.id in OWN_NAMES:
+                self.assertLessEqual(words, KEYWORDS.get(node.func.id, set()), where)
+
+    def test_is_stands_beside_none_true_and_false_alone(self):
+        for where, node in self.nodes(ast.Compare):
+            for sign, right in zip(node.ops, node.comparators):
+                if isinstance(sign, (ast.Is, ast.IsNot)):
+                    self.assertTrue(isinstance(right, ast.Constant) and right.value in (None, True, False), where)
+
+    def test_what_a_loop_walks_is_not_changed_in_it(self):
+        changes = ("append", "clear", "extend", "insert", "pop", "remove", "reverse", "setdefault", "update")
+        for where, loop in self.nodes(ast.For):
+            walked = {ast.dump(part) for part in ast.walk(loop.iter) if isinstance(part, (ast.Name, ast.Attribute))}
+            for node in ast.walk(ast.Module(loop.body, [])):
+                if isinstance(node, ast.Call) and isinstance(node.func, ast.Attribute) and node.func.attr in changes:
+                    self.assertNotIn(ast.dump(node.func.value), walked, where)
+                if isinstance(node, ast.Subscript) and isinstance(node.ctx, ast.Store):
+                    self.assertNotIn(ast.dump(node.value), walked, where)
 
     def test_values_of_objects(self):
         values = {node.attr for _, node in self.nodes(ast.Attribute) if isinstance(node.ctx, ast.Store)}

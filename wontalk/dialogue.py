@@ -1,8 +1,9 @@
 """The calls of one line, and what they are answered."""
 
 from wontalk.changes import against, say, unsay, withdraw
-from wontalk.questions import among, judge, least, sets, strategy
+from wontalk.questions import among, check, judge, least, needed, ring, sets, strategy, whole_talk
 from wontalk.talk import Talk
+from wontalk.turns import back, begin, legal, move
 
 
 # By the call's number: how many plain numbers it has, whether a row stands behind them, and what answers it.
@@ -17,6 +18,14 @@ def known_calls():
         6: (2, False, sets),
         7: (2, False, among),
         8: (1, False, strategy),
+        9: (1, True, check),
+        10: (1, False, begin),
+        11: (1, False, move),
+        12: (0, False, legal),
+        13: (0, False, back),
+        14: (0, False, ring),
+        15: (1, False, needed),
+        16: (0, False, whole_talk),
     }
 
 

@@ -1,51 +1,19 @@
-"""The least set, and how to win with its statements."""
+"""The least set, round by round."""
 
 
-# The places of the rounds, from round 0 to the least set.
-def rounds_of(field):
-    rounds = [0]
-    after = field.speaks_for(0)
-    while after != rounds[-1]:
-        rounds.append(after)
-        after = field.speaks_for(after)
-    return rounds
-
-
-# Round 0 is empty, so 0 is free to mean that none has it.
-def first_with(places, digit):
-    for turn, place in enumerate(places):
-        if place & digit:
-            return turn
-    return 0
-
-
-def firsts(field, places):
-    found = {}
-    for number in field.statements:
-        found[number] = first_with(places, field.digits[number])
-    return found
-
-
-def ranks_of(field):
-    return firsts(field, rounds_of(field))
-
-
-def falls_of(field):
-    return firsts(field, [field.spoken[place] for place in rounds_of(field)])
-
-
-def best_reply(talk, ranks, statement):
-    ranked = [(ranks[foe], foe) for foe in talk.foes(statement) if ranks[foe] > 0]
-    return min(ranked)[1]
-
-
-# Asked for statements of the least set alone: only there each foe is sure to have a reply.
-def strategy_of(talk, ranks, statement):
-    replies = {}
-    unanswered = talk.foes(statement)
-    while unanswered:
-        foe = unanswered.pop()
-        if foe not in replies:
-            replies[foe] = best_reply(talk, ranks, foe)
-            unanswered.extend(talk.foes(replies[foe]))
-    return replies
+# Two dicts: the ranks of those in the least set, and the falls of those that it speaks against.
+def ranks_and_falls(statements, pairs):
+    ranks = {}
+    falls = {}
+    turn = 0
+    risen = list(statements)
+    while risen:
+        turn += 1
+        opposed = [pair[1] for pair in pairs if pair[0] not in falls]
+        risen = [number for number in statements if number not in ranks and number not in opposed]
+        for number in risen:
+            ranks[number] = turn
+        for pair in pairs:
+            if pair[0] in ranks:
+                falls.setdefault(pair[1], turn)
+    return (ranks, falls)
